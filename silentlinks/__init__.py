@@ -1,0 +1,1 @@
+"""Silentlinks: one memory over links that fall silent."""
