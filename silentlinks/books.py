@@ -46,8 +46,8 @@ class Book:
     def __iter__(self):
         return iter(self.patterns)
 
-    def __getitem__(self, number):
-        return self.patterns[check_pattern_number(len(self.patterns), number)]
+    def __getitem__(self, at):
+        return self.patterns[check_pattern_number(len(self.patterns), at)]
 
     def __eq__(self, other):
         return isinstance(other, Book) and self.houses == other.houses and self.patterns == other.patterns
@@ -57,8 +57,8 @@ class Book:
             raise OtherHouses()
         return Book(self.houses, self.patterns + other.patterns)
 
-    def __sub__(self, number):
-        check_pattern_number(len(self.patterns), number)
+    def __sub__(self, other):
+        number = check_pattern_number(len(self.patterns), other)
         return Book(self.houses, self.patterns[:number] + self.patterns[number + 1:])
 
     def replaced(self, number, pattern):

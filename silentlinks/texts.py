@@ -124,8 +124,8 @@ def houses_of(words, line):
 
 
 def book_pattern_of(words, line):
-    """The Pattern in a later line of a book."""
-    if len(words) == 0 or words[0] != "pattern":
+    """The Pattern in a later line of a book that counts, so that it has a word."""
+    if words[0] != "pattern":
         raise BadText(line)
     return pattern_of(words[1:], line)
 

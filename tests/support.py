@@ -5,6 +5,7 @@ import random
 import unittest
 
 from silentlinks.books import Book
+from silentlinks.lots import Lots
 from silentlinks.patterns import Pattern
 
 # None of these is a number, though some are equal to one.
@@ -84,6 +85,24 @@ def harder_pattern(pick, pattern, houses):
     return pattern | some_pattern(pick, houses)
 
 
+def split_book(rows):
+    """For each row of houses a pattern in which they and the others of 7 houses do not hear one another."""
+    patterns = []
+    for row in rows:
+        others = [house for house in range(7) if house not in row]
+        patterns.append(Pattern((), Pattern.cut(row, others) + Pattern.cut(others, row)))
+    return Book(7, patterns)
+
+
+def descent_book(rows):
+    """For each row of sets of houses a pattern of 7 houses in which each set hears those ahead of it alone."""
+    patterns = []
+    for row in rows:
+        silent = [link for first, later in itertools.combinations(row, 2) for link in Pattern.cut(later, first)]
+        patterns.append(Pattern((), silent))
+    return Book(7, patterns)
+
+
 class Reach:
     """The net of a pattern, read from point [4] in another way than the package does it."""
 
@@ -157,3 +176,35 @@ def friends_by(nets, place, other):
 
 def keepable_by(nets, places):
     return all(friends_by(nets, p, o) for p, o in itertools.combinations(places, 2))
+
+
+def in_order(rows):
+    return tuple(sorted({tuple(sorted(row)) for row in rows}, key=lambda row: (len(row), row)))
+
+
+def some_rows(pick, houses, most=4):
+    """One to most sets of houses, none empty, as lists in any order."""
+    sets = [list(row) for row in subsets(range(houses)) if row]
+    rows = [pick.choice(sets) for _ in range(pick.randint(1, most))]
+    return [pick.sample(row, len(row)) for row in rows]
+
+
+def some_lots(seed, many, most_houses=5):
+    pick = random.Random(seed)
+    for _ in range(many):
+        houses = pick.randint(1, most_houses)
+        yield Lots(houses, some_rows(pick, houses), some_rows(pick, houses))
+
+
+def crossing_lots(seed, many, most_houses=5):
+    pick = random.Random(seed)
+    while many > 0:
+        houses = pick.randint(1, most_houses)
+        heard = some_rows(pick, houses, 3)
+        fits = [row for row in subsets(range(houses)) if row and all(set(row) & set(o) for o in heard)]
+        many -= 1
+        yield Lots(houses, pick.sample(fits, pick.randint(1, min(4, len(fits)))), heard)
+
+
+def crosses(lots):
+    return all(set(one) & set(other) for one in lots.asked for other in lots.heard)

@@ -56,6 +56,7 @@ class Nets(LinksCase):
         first = Net(2, Pattern([0]))
         self.assertIs(first == Net(2, Pattern([0], [(0, 1), (1, 0)])), True)
         self.assertIs(first == Net(3, Pattern([0])), False)
+        self.assertIs(first == Net(3, Pattern([0, 2])), False)
         self.assertIs(first == Net(2, Pattern([1])), False)
         self.assertIs(Net(2, Pattern()) == Net(2, Pattern((), [(0, 1)])), False)
         for other in (None, first.pattern, (2, (1,), ())):

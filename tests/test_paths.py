@@ -102,13 +102,21 @@ class Holding(LinksCase):
             self.assertIs(path_holds(net, 0, 1, [0, value, 1]), False)
             self.assertIs(wall_holds(net, 0, 2, [0, 1, value]), False)
 
+    def test_true_is_no_house(self):
+        net = Net(3, Pattern((), [(0, 2), (1, 2)]))
+        self.same([path_holds(net, 1, 1, (1,)), wall_holds(net, 0, 2, (0, 1))], [True, True])
+        for value in (True, 1.0):
+            self.assertIs(path_holds(net, 1, 1, (value,)), False)
+            self.assertIs(path_holds(net, 0, 1, (0, value)), False)
+            self.assertIs(wall_holds(net, 0, 2, [0, value]), False)
+
     def test_twice(self):
         net = Net(3, Pattern())
         self.same([path_holds(net, 0, 2, (0, 1, 2)), path_holds(net, 0, 2, (0, 1, 0, 2))], [True, False])
-        self.same([path_holds(net, 0, 0, (0,)), path_holds(net, 0, 0, (0, 1, 0)), path_holds(net, 0, 0, ())], [True, False, False])
+        self.same([path_holds(net, 0, 0, row) for row in ((0,), (0, 1, 0), ())], [True, False, False])
         apart = Net(2, Pattern((), [(0, 1)]))
-        self.same([wall_holds(apart, 0, 1, (0,)), wall_holds(apart, 0, 1, (0, 0)), wall_holds(apart, 0, 0, (0,))], [True, False, False])
-        self.same([wall_holds(apart, 1, 0, (1,)), wall_holds(apart, 1, 1, ())], [False, False])
+        self.same([wall_holds(apart, 0, 1, row) for row in ((0,), (0, 0), ())], [True, False, False])
+        self.same([wall_holds(apart, 0, 0, (0,)), wall_holds(apart, 1, 0, (1,)), wall_holds(apart, 1, 1, ())], [False] * 3)
 
     def test_row_stays(self):
         row = [1, 0]

@@ -90,8 +90,8 @@ class Asking(LinksCase):
 
     def test_lasts_for_all_numbers(self):
         pattern = Pattern([9], [(8, 7)])
-        told = [pattern.lasts(8, 7), pattern.lasts(7, 8), pattern.lasts(9, 8), pattern.lasts(8, 9), pattern.lasts(50, 50)]
-        self.same(told + [pattern.lasts(50, 60)], [False, True, False, False, False, True])
+        told = [pattern.lasts(a, b) for a, b in ((8, 7), (7, 8), (9, 8), (8, 9), (50, 50), (50, 60))]
+        self.same(told, [False, True, False, False, False, True])
 
     def test_equality(self):
         self.assertIs(Pattern([1, 0], [[0, 1]]) == Pattern((0, 1), ((0, 1),)), True)

@@ -85,7 +85,8 @@ class ReadPatterns(LinksCase):
         rows = [
             "", " ", "# clear", "clear # so", "clear clear", "Clear", "clear;", "calm", "pattern clear", "fall", "silent",
             "fall ", "fall; silent 0>1", "fall 1 ; silent 0>1", "fall 1;silent 0>1", "fall 1;", "fall 1; ", "fall 1; clear",
-            "fall 1; silent", "fall 1; fall 2", "silent 0>1; fall 1", "silent 0>1;", "fall 1 silent 0>1", "fall 1 2;; silent 0>1",
+            "fall 1; silent", "fall 1; fall 2", "silent 0>1; fall 1", "silent 0>1;", "fall 1 silent 0>1",
+            "fall 12 silent 0>1", "fall 1 2;; silent 0>1",
             "silent 0 >1", "silent 0> 1", "silent 0>1>2", "silent 0-1", "silent 01", "silent >1", "silent 0>", "silent >",
             "fall 01", "fall 00", "fall -1", "fall +1", "fall 1.0", "fall 1_0", "fall 0x1", "fall a", "fall 1,2", "fall True",
             "silent 00>1", "silent 0>01", "silent -1>0", "fall\t1", "fall 1\t", "\tclear", "fall 1\n", "\nfall 1", "fall 1\n2",
