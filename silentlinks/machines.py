@@ -1,6 +1,7 @@
 """Machines: what a house does with deeds, sheets and ticks."""
 
-from silentlinks.amounts import house_count, is_number
+from silentlinks.amounts import house_count
+from silentlinks.deeds import is_deed
 
 
 class Machine:
@@ -59,4 +60,4 @@ class Gossip(Machine):
 
     def admits(self, me, deed):
         """Whether deed is a tour with a number."""
-        return isinstance(deed, tuple) and len(deed) == 2 and deed[0] == "tour" and is_number(deed[1])
+        return is_deed(deed, "tour", 1)
