@@ -103,6 +103,13 @@ class Lots:
         return cls(houses, rows, rows)
 
 
+def check_lots(value):
+    """The value; BadLots("asked", -1) if it is no Lots."""
+    if not isinstance(value, Lots):
+        raise BadLots("asked", -1)
+    return value
+
+
 def lots_of(claim):
     """The Lots of the parts and of the pasts of a keepable claim's places."""
     claim.kept()
