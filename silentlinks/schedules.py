@@ -30,8 +30,8 @@ def value_in(word):
 
 
 def deed_in(words):
-    """The deed that words write, None if they write none."""
-    if len(words) == 0 or words[0] not in DEEDS:
+    """The deed that one or more words write, None if they write none."""
+    if words[0] not in DEEDS:
         return None
     kinds = DEEDS[words[0]]
     if len(words) != len(kinds) + 1:

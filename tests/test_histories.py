@@ -67,10 +67,15 @@ class Checks(LinksCase):
     def test_times(self):
         """[200]: no number occurs twice among all begun and ended."""
         get = ("get", 0)
-        for begun, ended in ((0, 5), (3, 5), (2, 3), (2, None), (2, 10 ** 29), (1, None)):
-            rows = [GOOD[0], GOOD[1], (7, get, begun, ended, None if ended is None else 0), GOOD[4]]
-            clash = begun in (0, 1, 2, 3) or ended in (0, 1, 2, 3)
-            self.raises(BadRecord(2 if clash else 3), check_history, rows)
+        rows = [(0, ("put", 0, 13), 4, 8, 13), (1, get, 5, None, None), (2, get, 11, 20, 0)]
+        used = (4, 5, 8, 11, 20)
+        for begun in range(12):
+            for ended in [None] + list(range(begun + 1, 22)):
+                record = (7, get, begun, ended, None if ended is None else 30)
+                if begun in used or ended in used:
+                    self.raises(BadRecord(3), check_history, rows + [record, None])
+                else:
+                    self.same(check_history(rows + [record])[3], record)
         self.same(len(check_history([(0, get, 0, None, None), (0, get, 1, None, None)])), 2)
 
     def test_what_is_handed_out(self):
@@ -107,7 +112,11 @@ class Others(LinksCase):
         one, two, late = (0, ("get", 0), 0, 5, 0), (1, ("get", 0), 3, None, None), (1, ("get", 0), 6, 7, 0)
         self.same([ended_before(one, two), ended_before(one, late), ended_before(two, late), ended_before(late, one),
                    ended_before(one, one)], [False, True, False, False, False])
-        self.same(ended_before(list(one), (1, ("get", 0), 5, 6, 0)), False)
+        for begun, wanted in ((4, False), (5, False), (6, True)):
+            for answer in (0, 9):
+                first = (0, ("get", 0), 0, 5, answer)
+                for ended in (None, 7):
+                    self.same(ended_before(list(first), (1, ("get", 0), begun, ended, None if ended is None else 0)), wanted)
 
     def test_registers_in(self):
         self.same([registers_in(GOOD), registers_in(()), registers_in([GOOD[1]]), registers_in(GOOD[3:4]),

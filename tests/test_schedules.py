@@ -69,6 +69,7 @@ class Texts(LinksCase):
             "tick 0\t", "tick 0\r", "tick 0 # no", f"tick {N30 + 1}", "tick True", "fall", "fall 0 1", "wake", "wake 0 0", "fall -0",
             "hush 0", "hush 0 0", "hush 0 1 2", "hush 0>1", "hush 0 -1", "hand 0 1 1", "hand 0 1 to", "hand 0 1 to 0", "hand 0 0 to 1",
             "hand 0 -1 to 1", "hand 0 1 To 1", "hand 0 1 2 1", "hand 0 1 to 1 1", "hand 0 01 to 1", "hand 0 to 1", "hand", "hush",
+            "tick 0 1 to 1", "tock 0 1 to 1", "fall 0 1 to 1",
             "begin", "begin 0", "begin 0 0", "begin get 0", "begin 0 get", "begin 0 get 0 0", "begin 0 get -1", "begin 0 get x",
             "begin 0 put 0", "begin 0 put 0 5 5", "begin 0 put -1 5", "begin 0 put 0 -0", "begin 0 put 0 --5", "begin 0 put 0 -",
             "begin 0 put 0 - 5", "begin 0 put 0 -05", "begin 0 put 0 +5", f"begin 0 put 0 -{N30 + 1}", f"begin 0 put {N30 + 1} 0",
@@ -123,6 +124,11 @@ class Exchange(LinksCase):
         s = (("tick", 0), ("tick", 0), ("hand", 0, 1, 1), ("hand", 0, 2, 1))
         self.same([is_free(s, 0), is_free(s, 1), is_free(s, 2)], [False, True, False])
         self.same(exchanged(s, 1), (s[0], s[2], s[1], s[3]))
+
+    def test_neither_is_the_tick(self):
+        """is_free: neither is the tick that makes the sheet which the other one hands."""
+        s = (("hand", 0, 1, 1), ("tick", 0), ("hand", 0, 2, 1))
+        self.same([is_free(s, 0), is_free(s, 1)], [False, True])
 
     def test_wrong_time(self):
         s = [("tick", 0), ("tick", 1), ("tick", 0)]

@@ -98,8 +98,8 @@ class Rounds(LinksCase):
 
     def test_do_rounds(self):
         """[10]: rounds counted from 1, with a tuple for each answer."""
+        pick, rounds = random.Random(13), set()
         for net, plain in some_nets(13, 60, 4):
-            pick = random.Random(net.houses)
             chosen = some_set(pick, net)
             world, twin = World(Gossip(net.houses)), World(Gossip(net.houses))
             for h in chosen:
@@ -112,8 +112,10 @@ class Rounds(LinksCase):
                     if answer is not None:
                         wanted.append((number, event[1], answer))
             self.same(do_rounds(world, net, chosen, 3), wanted)
+            rounds |= {row[0] for row in wanted}
             self.same(telling(world), telling(twin))
             self.same(do_rounds(world, net, chosen, 0), [])
+        self.assertEqual(rounds, {1, 2})
 
     def test_gossip_in_rounds(self):
         """[127]"""

@@ -88,7 +88,7 @@ class Plain:
 
 
 WRONG = (
-    None, 5, True, "tick", ["tick", 0], [], (), ("tick",), ("tick", 0, 0), ("tock", 0), (0, "tick"), (None, 0), (b"tick", 0),
+    None, 5, True, ("tock",), ("",), "tick", ["tick", 0], [], (), ("tick",), ("tick", 0, 0), ("tock", 0), (0, "tick"), (None, 0), (b"tick", 0),
     (["tick"], 0), (("tick",), 0), ("Tick", 0), ("begin", 0), ("begin", 0, None), ("begin", 0, ["tour", 1]),
     ("begin", 0, "tour"), ("begin", 0, ("tour", 1), 2), ("begin", 9, ("tour", 1)), ("fall",), ("wake", 0, 1), ("hush", 0),
     ("hush", 0, 0), ("hush", 0, 1, 2), ("hush", (0, 1)), ("hand", 0, 1), ("hand", 0, 1, 0), ("hand", 0, 0, 1),
@@ -122,6 +122,7 @@ class Does(LinksCase):
                         self.same(telling(world), before)
                 self.same(world.history(), tuple(tuple(r) for r in plain.records))
                 self.same([world.state(h) for h in range(world.houses)], plain.states)
+                self.same([[world.sheet(h, t + 1) for t in range(world.ticks(h))] for h in range(world.houses)], plain.sheets)
         self.assertEqual(set(seen), {type(None), BadEvent, IsAwake, IsSilent, NotAwake, IsBusy, NotAdmitted, NoSheet})
 
     def test_values_of_any_kind(self):
