@@ -187,6 +187,19 @@ class Numbering(LinksCase):
         self.assertEqual(len(seen), 2)
 
 
+    def test_at_one_number(self):
+        """[182]: by register, then by stamp, a put before its gets; then all others."""
+        world = World(Memory(Lots(3, [[2]], [[2]]), owners=(1, 0)))
+        do_all(world, [("begin", 0, ("put", 1, 7)), ("begin", 1, ("put", 0, 8)), ("begin", 2, ("look",)), ("tick", 0), ("tick", 1),
+                       ("hand", 0, 1, 2), ("hand", 1, 1, 2), ("tick", 2)])
+        self.same([stamp_told(world, 0), stamp_told(world, 1)], [(1, 0), (1, 1)])
+        self.same([place_numbers(world), order_by_numbers(world)], [(1, 1, 1), (1, 0, 2)])
+        world = World(Memory(Lots(3, [[2]], [[2]]), owners=(1, 0)))
+        do_all(world, [("begin", 2, ("get", 0)), ("begin", 0, ("put", 1, 7)), ("begin", 1, ("put", 0, 8)), ("tick", 0), ("tick", 1),
+                       ("hand", 0, 1, 2), ("hand", 1, 1, 2), ("tick", 2)])
+        self.same([place_numbers(world), order_by_numbers(world)], [(1, 1, 1), (2, 0, 1)])
+
+
 class Facts(LinksCase):
     def test_one_order(self):
         """[181]"""
