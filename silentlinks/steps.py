@@ -189,11 +189,11 @@ class Stepper:
     def fitting_lot(self, statement, loops):
         """The lot that a statement first takes, () if there is none."""
         for lot in lots_of_table(self.program, statement[1]):
-            if self.fits(lot, statement[2], statement[3], loops):
+            if self.fits_tests(lot, statement[2], statement[3], loops):
                 return lot
         return ()
 
-    def fits(self, lot, name, cond, loops):
+    def fits_tests(self, lot, name, cond, loops):
         """Whether the tests hold for each member of a lot; behind the first other one it is left."""
         for house in lot:
             self.steps += 1
