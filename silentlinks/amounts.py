@@ -111,3 +111,9 @@ def meet(first, second):
 def lies_in(first, second):
     """Whether each member of first is in second."""
     return all([value in second for value in first])
+
+
+def same_value(first, other):
+    """Whether two values are equal and of the same kinds throughout: True and 1.0 are no 1."""
+    # Long texts are made only of what compares as equal.
+    return first == other and repr(first) == repr(other)

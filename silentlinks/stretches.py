@@ -73,6 +73,18 @@ def do_rounds(world, net, houses, many):
     return answers
 
 
+def rounds_to_answer(world, net, houses, house, many):
+    """Does rounds up to the one in which the deed in progress at house is answered, at most so many.
+
+    The number of that round, None if the deed is not answered in them.
+    """
+    for at in range(many):
+        do_all(world, round_events(world, net, houses))
+        if world.deed(house) is None:
+            return at + 1
+    return None
+
+
 def is_closed(net, houses):
     """Whether no lasting link leads into the set of houses from outside."""
     chosen = alive_set(net, houses)

@@ -211,3 +211,11 @@ def run(machine, schedule):
         except LinksError as e:
             raise NotDone(time) from e
     return world
+
+
+def done_world(machine, schedule):
+    """The World behind the events of a list or tuple, None if one is refused."""
+    try:
+        return run(machine, schedule)
+    except NotDone:
+        return None
