@@ -58,10 +58,11 @@ def ready_lot(machine, board, me, view):
 
 def proposed_row(board, me, wish, lot):
     """The row that the leader me proposes behind the cards of a heard lot."""
-    row = max([board[house][1] for house in lot], key=lambda accepted: accepted[0])[1]
+    # All rows that are accepted with one view are the same one.
+    row = max([board[house][1] for house in lot])[1]
     wishes = [board[house][3] for house in range(len(board)) if house != me] + [wish]
-    further = [told for told in wishes if told is not None and told not in row]
-    return row + tuple(sorted(further, key=lambda told: (told[0], told[1])))
+    # They are of unlike houses, so that the deeds in them are not compared.
+    return row + tuple(sorted([told for told in wishes if told is not None and told not in row]))
 
 
 def proposed_next(machine, board, me, view, wish):

@@ -50,7 +50,7 @@ class Desk:
     @property
     def waiting(self):
         """The houses with a deed in progress, ascending."""
-        return tuple([house for house in range(self.book.houses) if self._world.deed(house) is not None])
+        return tuple(sorted(self._world._pending))
 
     def put_down(self, world, number):
         """Counts an action behind which the desk has this world and this struck pattern."""
@@ -142,7 +142,6 @@ class Trial:
         return self
 
     def __exit__(self, kind, value, trace):
-        """Gives the desk back what it had when the block was entered."""
         desk = self.desk
         desk._world = self._world
         desk._struck = self._struck

@@ -1,12 +1,11 @@
 """Papers against machines: a get that has not heard of a put which was answered ahead of it."""
 
 from silentlinks.amounts import meet
-from silentlinks.friends import place_of
-from silentlinks.lone import answered_schedule, check_patience, hanging_times, lone_answered
+from silentlinks.lone import answered_schedule, hanging_times, lone_answered
 from silentlinks.nets import net_of
 from silentlinks.papers import Mute, TwoRuns
 from silentlinks.putfirst import (
-    GET, PUT, asked_in_rounds, has_chain_house, is_quiet, lone_mute, only_begin, quiet_past, two_places,
+    GET, PUT, asked_in_rounds, begin_and_place, has_chain_house, is_quiet, lone_mute, quiet_past, two_places,
 )
 from silentlinks.schedules import house_of_event
 from silentlinks.views import past_times
@@ -24,9 +23,7 @@ def parted_past(schedule, start):
 
 def get_first_of(machine, book, schedule, writer, patience):
     """The paper of a put ahead of the get of a schedule; None if the past of writer has a chain house of the get."""
-    start = only_begin(machine, schedule, GET)
-    place = place_of(book, writer, 0)
-    check_patience(patience)
+    start, place = begin_and_place(machine, book, schedule, GET, writer, patience)
     if has_chain_house(book, place, schedule, start):
         return None
     ahead, behind = parted_past(schedule, start)

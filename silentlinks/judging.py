@@ -55,7 +55,7 @@ def first_late(rows):
     return None
 
 
-def first_false(rows):
+def first_untrue(rows):
     """The least index of a get or look that answers something else than is due, None if there is none."""
     held = {}
     for at, record in enumerate(rows):
@@ -76,10 +76,10 @@ def first_wrong(records, row):
         return ("missing", missing)
     if unended is not None:
         return ("unended", unended)
-    late, false = first_late(rows), first_false(rows)
+    late, untrue = first_late(rows), first_untrue(rows)
     if late is not None:
         return ("time", late)
-    return None if false is None else ("answer", false)
+    return None if untrue is None else ("answer", untrue)
 
 
 def is_order(records, row):

@@ -29,6 +29,17 @@ def only_begin(machine, schedule, deed):
     return begun
 
 
+def begin_and_place(machine, book, schedule, deed, place, patience):
+    """The time of the only begin of a schedule, as only_begin, and the place of the other deed.
+
+    BadPaper(), then NotAPlace(0), then the error of the patience.
+    """
+    start = only_begin(machine, schedule, deed)
+    pair = place_of(book, place, 0)
+    check_patience(patience)
+    return (start, pair)
+
+
 def two_places(book, first, other, patience):
     """Two places of the book; NotAPlace(0), NotAPlace(1), then the error of the patience."""
     places = (place_of(book, first, 0), place_of(book, other, 1))
@@ -86,9 +97,7 @@ def behind_writer(machine, book, schedule, place, deed, patience):
 
 def put_first_of(machine, book, schedule, reader, patience):
     """The paper of a get behind the put of a schedule; None if the past of reader has a chain house of the put."""
-    start = only_begin(machine, schedule, PUT)
-    place = place_of(book, reader, 0)
-    check_patience(patience)
+    start, place = begin_and_place(machine, book, schedule, PUT, reader, patience)
     if has_chain_house(book, place, schedule, start):
         return None
     return behind_writer(machine, book, schedule, place, GET, patience)
