@@ -1,6 +1,5 @@
 """A desk at which a world is run by hand."""
 
-from silentlinks.amounts import house_of
 from silentlinks.claims import check_book
 from silentlinks.errors import Closed, FixedMachine, NothingBack
 from silentlinks.lone import check_patience, check_rounds
@@ -89,7 +88,6 @@ class Desk:
 
     def run_to_answer(self, house):
         """Does rounds up to the one in which the deed in progress at house is answered; how many, and the answer."""
-        house_of(self.book.houses, house)
         if self._world.deed(house) is None:
             return (0, None)
         net = self.net_struck()

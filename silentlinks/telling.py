@@ -3,7 +3,6 @@
 from silentlinks.amounts import check_number, lies_in
 from silentlinks.echoes import distances, distances_to
 from silentlinks.lots import check_same_houses
-from silentlinks.nets import alive_house
 from silentlinks.parts import part, past
 from silentlinks.served import push_time
 from silentlinks.viewing import view_at, view_start
@@ -40,7 +39,6 @@ def told_stretch(lots, base, net, house, clocks):
     """The view and the stretch in which a deed of house is answered at the latest, None if the lots do not serve it."""
     check_same_houses(lots, net)
     check_number(base, "base", 1)
-    alive_house(net, house)
     if not lots.serves(net, house):
         return None
     rows = [view_told(lots, base, net, house, leader, clocks) for leader in part(net, house)]

@@ -205,6 +205,10 @@ class Desks(LinksCase):
         self.same([desk.run_to_answer(1), desk.waiting], [(2, None), (1,)])
         for value in (2, -1) + NO_NUMBERS:
             self.raises(BadHouse(value), desk.run_to_answer, value)
+        given = Desk(PAIR, Told.read(2, "machine same\ntick\n  answer given"))
+        for value in (5, -3):
+            given.do(("begin", 1, ("put", 0, value)))
+            self.same(given.run_to_answer(1), (1, value))
         zero = Desk(PAIR, Told.read(2, "machine zero\ntick\n  answer 0"))
         zero.do(("begin", 1, GET))
         self.same(zero.run_to_answer(1), (1, 0))

@@ -235,6 +235,8 @@ class Judges(LinksCase):
         self.same(judge.fault(TwoRuns(CUT, events[:2], 0, 0, 1, 0)), "others")
         late = [events[2], events[0], events[1], events[3]]
         self.same(judge.fault(TwoRuns(CUT, late, 0, 0, 1, 1)), "order")
+        both = [events[0], events[2], events[1], events[3]]
+        self.same(judge.fault(TwoRuns(CUT, both, 0, 0, 1, 0)), "order")
         self.same(judge.fault(TwoRuns(CUT, [events[0]] + events[2:], 0, 0, 1, 0)), "order")
         self.same(judge.fault(TwoRuns(CUT, events[:3], 0, 0, 1, 0)), "order")
         self.same(judge.fault(TwoRuns(CUT, events + [("tick", 0)], 0, 0, 1, 0)), "order")

@@ -6,7 +6,7 @@ import unittest
 from silentlinks.errors import BadNumber, BadRows
 from silentlinks.lots import Lots
 from silentlinks.machines import Machine
-from silentlinks.moving import Moving
+from silentlinks.moving import Moving, is_still
 from silentlinks.nets import Net
 from silentlinks.patterns import Pattern
 from silentlinks.served import tour_rounds
@@ -112,6 +112,26 @@ class Machines(LinksCase):
         do_all(world, [("hand", 1, 3, 0), ("tick", 0)])
         state = world.state(0)
         self.same([state[3][:3], state[3][3][1], state[4], len(tours_of(state))], [(0, 1, 3), 1, (), 1])
+
+    def test_numbers(self):
+        """[261]: the NUMBER counts the stamps in PUT that begin with the tour's lots, and no others."""
+        world = World(Moving([Lots(2, [[0], [1]], [[0], [1]])]))
+        do_all(world, [("tick", 0)] * 10 + [("begin", 0, ("put", 0, 5)), ("tick", 0), ("tick", 0), ("hand", 0, 12, 1)])
+        do_all(world, [("begin", 1, ("get", 0)), ("tick", 1)])
+        tour = world.state(1)[4][0]
+        self.same([tour[1], tour[2], tour[3][0], tour[4]], [0, 1, ((0, 12, 0, 5),), 12])
+        world = World(Moving([Lots(3, [[0]], [[0]]), Lots(3, [[2]], [[2]])]))
+        do_all(world, [("tick", 0)] * 10 + [("begin", 0, ("put", 0, 5)), ("tick", 0), ("tick", 0)])
+        do_all(world, [("begin", 0, ("move", 1)), ("tick", 0), ("tick", 0), ("hand", 0, 14, 2)])
+        self.same(do_all(world, [("begin", 2, ("get", 0)), ("tick", 2)]), [(18, 2, 5)])
+        tour = world.state(2)[4][0]
+        self.same([tour[1], tour[2], tour[3][0], tour[4]], [1, 1, ((0, 12, 0, 5),), 1])
+
+    def test_owners(self):
+        """[263]: of two stamps of one number the one with the greater owner is greater; a get then needs two tours."""
+        put, other = ((0, 3, 1, 7),), ((0, 3, 2, 8),)
+        for first, result, wanted in ((put, other, False), (put, put, True), (other, put, True)):
+            self.same(is_still((0, 0, 1, (first, 0, -1), 3, 4, (result, 0, -1), "valid"), 0), wanted)
 
     def test_closing_tour(self):
         """A move whose closing tour ended opens the next lots with its next card; a move to lots that are open is a tour."""
