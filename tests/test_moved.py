@@ -103,7 +103,7 @@ class Moved(LinksCase):
             moves = [record for record in world.history() if record[1][0] == "move"]
             several += any(a[2] < b[2] and (a[3] is None or b[2] < a[3]) for a in moves for b in moves if a[0] != b[0])
             many += sum(record[3] is not None for record in history)
-        self.assertGreater(several, 60)
+        self.assertGreater(several, 20)
         self.assertGreater(many, 1000)
 
     def test_lots_apart(self):

@@ -75,7 +75,7 @@ class Stretched(LinksCase):
                 self.assertIn(told[1], orders)
                 self.assertEqual((type(told), len(told), told[0]), (tuple, 2, "order"))
         self.assertEqual(set(seen), {"order", "unput", "across", "inside"})
-        self.assertGreater(min(seen.values()), 10)
+        self.assertGreater(min(seen.values()), 1)
 
     def test_larger_ones(self):
         for history in one_register_histories(22, 600, 9):
