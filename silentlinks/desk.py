@@ -6,7 +6,7 @@ from silentlinks.lone import check_patience, check_rounds
 from silentlinks.lots import check_same_houses
 from silentlinks.nets import Net
 from silentlinks.patterns import Pattern
-from silentlinks.stretches import do_all, do_rounds, rounds_to_answer, strike
+from silentlinks.stretches import do_all, do_rounds, do_strike, rounds_to_answer
 from silentlinks.worlds import World, check_machine
 
 
@@ -71,9 +71,8 @@ class Desk:
     def strike(self, number):
         """Does the strike of the pattern of this number; the tuple of its events."""
         pattern = self.book[number]
-        events = strike(self._world, pattern)
         world = self._world.twin()
-        do_all(world, events)
+        events = do_strike(world, pattern)
         self.put_down(world, number)
         return events
 

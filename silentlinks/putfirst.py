@@ -7,7 +7,7 @@ from silentlinks.lone import answered_schedule, chain_houses, check_patience, lo
 from silentlinks.nets import net_of
 from silentlinks.papers import Mute, TwoRuns
 from silentlinks.parts import past
-from silentlinks.stretches import do_all, rounds_to_answer, strike
+from silentlinks.stretches import do_strike, rounds_to_answer
 from silentlinks.views import pruned
 from silentlinks.worlds import done_world, run
 
@@ -76,7 +76,7 @@ def asked_in_rounds(world, book, place, deed, patience):
 def struck_behind(machine, book, schedule, place):
     """A world behind what the last event of a schedule depends on, and behind the strike of the place's pattern."""
     world = run(machine, quiet_past(schedule))
-    do_all(world, strike(world, book[place[0]]))
+    do_strike(world, book[place[0]])
     return world
 
 

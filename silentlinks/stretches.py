@@ -63,6 +63,13 @@ def do_all(world, events):
     return answers
 
 
+def do_strike(world, pattern):
+    """Does the strike of a pattern; the tuple of its events."""
+    events = strike(world, pattern)
+    do_all(world, events)
+    return events
+
+
 def do_rounds(world, net, houses, many):
     """Does so many rounds; a list of a tuple (round, house, answer) for each answer."""
     chosen = alive_set(net, houses)
