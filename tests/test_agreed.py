@@ -121,7 +121,7 @@ class Machines(LinksCase):
 class Agreement(LinksCase):
     def test_one_row_in_each_view(self):
         """[244]: whatever the lots; the accepted view of a house never falls."""
-        many = 0
+        many, twice = 0, 0
         for crossing in (True, False):
             for world in agreed_worlds(11 + crossing, 60, 900, WISHES, crossing):
                 rows, last = {}, {}
@@ -131,7 +131,11 @@ class Agreement(LinksCase):
                     self.assertGreaterEqual(card[1][0], last.get(house, -1))
                     last[house] = card[1][0]
                 many += len(rows)
+                wishes = {wish for row in rows.values() for wish in row}
+                twice += sum(sum(wish in row for row in rows.values()) > 1 for wish in wishes)
         self.assertGreater(many, 300)
+        # Wishes that stand in the rows of two views or more.
+        self.assertGreater(twice, 100)
 
     def test_later_rows_go_on(self):
         """[245]: a row that all members of an asked lot accepted in one view stands ahead in all later proposals."""

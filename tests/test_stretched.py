@@ -154,6 +154,14 @@ class Stretched(LinksCase):
         self.same(verdict(rows), ("unput", 1))
         self.same([is_paper(rows, ("unput", k)) for k in (0, 1, 2)], [False, True, True])
 
+    def test_get_at_the_time_of_its_put(self):
+        """A get that ends while the put of its number goes on stands behind this put."""
+        for put in ((0, ("put", 2, 4), 0, 5, 4), (0, ("put", 2, 4), 0, None, None), (0, ("put", 2, 4), 2, 5, 4)):
+            records = [(1, ("get", 2), 1, 3, 4), put]
+            self.same(value_ends(records, 4), (3, max(1, put[2])))
+            self.same(verdict(records), ("order", (1, 0)))
+            self.same(is_paper(records, ("unput", 0)), False)
+
     def test_zero(self):
         """The number 0 has a put at time -1: a get of 0 behind a put that ended makes it held."""
         records = [(0, ("put", 0, 7), 0, 1, 7), (1, ("get", 0), 2, 3, 0)]
