@@ -10,8 +10,7 @@ from silentlinks.viewing import leader_of, view_at
 
 # A state is (board, wish, turn, agreed), a card (clock, accepted, proposed, wish, agreed); accepted and
 # proposed are (view, row), a wish is (house, turn, deed).
-NO_ROW = (-1, ())
-BLANK_CARD = (0, NO_ROW, NO_ROW, None, ())
+BLANK_CARD = (0, (-1, ()), (-1, ()), None, ())
 
 
 def accepted_view(lot, board):
