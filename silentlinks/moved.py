@@ -1,6 +1,6 @@
 """The order of the history of a memory that moves."""
 
-from silentlinks.moving import valid_tours
+from silentlinks.moving import VALID, valid_tours
 from silentlinks.numbering import deed_tours, record_at
 from silentlinks.tours import tours_in
 
@@ -29,7 +29,7 @@ def stamp_moved(world, at):
 
 def valid_in(world):
     """All valid tours in the logs of all houses."""
-    return [tour for house, tour in tours_in(world) if tour[7] == "valid"]
+    return [tour for house, tour in tours_in(world) if tour[7] == VALID]
 
 
 def least_of(tours, place, stamp):
