@@ -51,8 +51,8 @@ def first_unmet(claim, place, rounds):
 
 
 def is_too_quick(rounds, least):
-    """Whether an answer in this round, if there is one, comes ahead of the least round; None is behind all."""
-    return rounds is not None and (least is None or rounds < least)
+    """Whether an answer in this round comes ahead of the least round; never if one of the two is None."""
+    return rounds is not None and least is not None and rounds < least
 
 
 def hasty(machine, claim, *, patience=24):
@@ -61,6 +61,7 @@ def hasty(machine, claim, *, patience=24):
     book = claim.book
     for place in claim.places:
         least = least_rounds(claim, place)
+        # A place without a least round gives no paper, but its deeds are asked, so that a refusal of one goes through.
         rounds = asked_alone(machine, book, place, PUT, patience)
         if is_too_quick(rounds, least):
             return put_first(machine, book, place, first_unmet(claim, place, rounds), patience)

@@ -135,7 +135,7 @@ class Breaker(LinksCase):
         claim = Claim(book, [(0, 0), (0, 1)])
         self.same(break_claim(quick, claim).KIND, "two runs")
         self.same([least_rounds(claim, (0, 0)), least_rounds(claim, (0, 1))], [None, None])
-        self.same(hasty(quick, claim).writer, 0)
+        self.same(hasty(quick, claim), None)
 
     def test_errors(self):
         """[220]: a wrong patience, also where None would be returned; NotAdmitted behind it."""
@@ -162,28 +162,69 @@ class Breaker(LinksCase):
 
     def test_hasty(self):
         """[232]: the first lone deed that is answered ahead of the least round, of put_first or get_first; else None."""
-        seen = {}
-        for pick, book in broken_books(94, 500):
+        seen = set()
+        for pick, book in broken_books(94, 800):
             claim, machine, patience = some_claim(pick, book), some_machine(pick, book.houses), pick.randint(1, 10)
-            wanted, made = None, None
+            wanted, made, passed = None, None, False
             nets = reaches_of(book)
             for place in claim.places:
                 least = least_by(claim, place)
                 for deed in (PUT, GET):
                     told = lone_by(machine, book, place, deed, patience)
-                    if made is None and told is not None and (least is None or told < least):
+                    if made is None and told is not None and least is None:
+                        passed = True
+                    if made is None and told is not None and least is not None and told < least:
                         echo = nets[place[0]].echo(place[1], told - 1)
                         other = [(j, h) for j, h in claim.places if not set(nets[j].past(h)) & set(echo)][0]
-                        made = deed[0], least is None
+                        made = deed[0]
                         call = put_first if deed is PUT else get_first
                         wanted = call(machine, book, place, other, patience)
                         self.assertIsNot(wanted, None)
             paper = hasty(machine, claim, patience=patience)
             self.same_paper(paper, wanted)
-            seen[made] = seen.get(made, 0) + 1
+            seen.add((made, passed))
             if paper is not None:
                 self.taken(machine, book, paper)
-        self.assertLessEqual({None, ("put", True), ("put", False), ("get", True), ("get", False)}, set(seen))
+        self.assertLessEqual({(None, False), (None, True), ("put", False), ("put", True), ("get", False)}, seen)
+
+    def test_hasty_without_least_round(self):
+        """A place whose least round is None gives no paper, whichever round answers it; a later place may give one."""
+        quick = Told.read(2, QUICK)
+        for patience in (1, 24, 200):
+            self.same(hasty(quick, Claim(CUT, [(0, 0), (0, 1)]), patience=patience), None)
+        book = Book(3, [Pattern((), [(0, 1), (0, 2), (1, 0), (2, 0)]), Pattern()])
+        claim = Claim(book, [(0, 0), (0, 1), (1, 1)])
+        self.same([least_rounds(claim, place) for place in claim], [None, None, 3])
+        quick = Told.read(3, QUICK)
+        paper = hasty(quick, claim)
+        self.same_paper(paper, put_first(quick, book, (1, 1), (0, 0), 24))
+        self.same((paper.number, paper.writer, paper.reader, paper.start), (0, 1, 0, 0))
+        self.taken(quick, book, paper)
+        # Of this machine a get alone is quick, so that the later place reads.
+        late = Told.read(3, "machine late\ncells c\nbegin\n  c = 0\ntick\n  c = c + 1\n  if c >= 3\n    answer 1\n  if deed = 1\n    answer 0")
+        paper = hasty(late, claim)
+        self.same_paper(paper, get_first(late, book, (1, 1), (0, 0), 24))
+        self.same((paper.number, paper.writer, paper.reader), (0, 0, 1))
+        self.taken(late, book, paper)
+
+    def test_hasty_asks_without_least_round(self):
+        """Both deeds of a place are asked, also where its least round is None: what is refused there goes through."""
+        class Some(Told):
+            taken = ()
+
+            def admits(self, me, deed):
+                return (me, deed[0]) in self.taken
+
+        machine, claim = Some.read(2, QUICK), Claim(CUT, [(0, 0), (0, 1)])
+        deeds = ((0, "put"), (0, "get"), (1, "put"), (1, "get"))
+        for many in range(4):
+            machine.taken = deeds[:many]
+            self.raises(NotAdmitted(deeds[many][0]), hasty, machine, claim)
+            # The deed refused alone is asked, too.
+            machine.taken = deeds[:many] + deeds[many + 1:]
+            self.raises(NotAdmitted(deeds[many][0]), hasty, machine, claim)
+        machine.taken = deeds
+        self.same(hasty(machine, claim), None)
 
     def test_hasty_asks_no_more(self):
         """Behind the first quick deed no other one is begun."""
@@ -191,8 +232,21 @@ class Breaker(LinksCase):
             def admits(self, me, deed):
                 return me == 0 and deed == PUT or me == 1 and deed == GET
 
-        claim = Claim(CUT, [(0, 0), (0, 1)])
+        claim = Claim(Book(2, [Pattern(), CUT[0]]), [(0, 0), (1, 1)])
+        self.same([least_rounds(claim, place) for place in claim], [3, 1])
         self.same(hasty(First.read(2, QUICK), claim).KIND, "two runs")
+
+    def test_hasty_ahead_of_the_least_round(self):
+        """An answer in the least round itself is not quick, one in the round ahead of it is; so with put and get."""
+        claim = Claim(Book(2, [Pattern(), CUT[0]]), [(0, 0), (1, 1)])
+        for put, get, kind in ((3, 3, None), (2, 3, "put"), (3, 2, "get"), (4, 4, None)):
+            text = f"machine late\ncells c\nbegin\n  c = 0\ntick\n  c = c + 1\n  if deed = 2 and c >= {put}\n    answer 1"
+            machine = Told.read(2, text + f"\n  if deed = 1 and c >= {get}\n    answer 1")
+            call = {None: lambda *args: None, "put": put_first, "get": get_first}[kind]
+            paper = hasty(machine, claim)
+            self.same(paper is None, kind is None)
+            self.same_paper(paper, call(machine, claim.book, (0, 0), (1, 1), 24))
+            self.same_paper(hasty(machine, claim, patience=1), None)
 
     def test_measured(self):
         """All places whose lone put and whose lone get are answered."""
@@ -211,7 +265,10 @@ class Breaker(LinksCase):
             text = f"machine late\ncells c\nbegin\n  c = 0\ntick\n  c = c + 1\n  if c >= {ticks}\n    answer 1"
             machine = Told.read(2, text)
             self.assertEqual(len(measured(machine, CUT)), wanted)
-            self.assertEqual(hasty(machine, Claim(CUT, [(0, 0), (0, 1)])) is None, wanted == 0)
+        # No least round is above 24, so the patience of hasty shows in the rounds that its paper waits.
+        half = Told.read(2, "machine half\ncells c\ntick\n  if deed = 2\n    answer 1")
+        book = Book(2, [Pattern(), CUT[0]])
+        self.same(Judge(half, book).rounds_of(hasty(half, Claim(book, [(0, 0), (1, 1)]))), 24)
         deaf = Told.read(2, DEAF)
         claim = Claim(CUT, [(0, 0), (0, 1)])
         for call in (break_claim, break_agreement):
